@@ -1,0 +1,135 @@
+// Package herald: messages that are published later, and a disk that may lose its tail: see DOC.md.
+package herald
+
+import (
+	"herald/api"
+	"herald/topics"
+)
+
+// Herald is a broker.
+type Herald struct {
+	room    int // records that there may be
+	records int
+	clients [api.MaxClients]clientState
+}
+
+type clientState struct {
+	filters []string
+}
+
+// Fits tells whether a filter fits a topic (P3).
+func Fits(filter string, topic string) (bool, api.Errno) {
+	if !topics.IsFilter(filter) {
+		return false, api.ErrFilter
+	}
+	if !topics.IsTopic(topic) {
+		return false, api.ErrTopic
+	}
+	return topics.Fits(filter, topic), api.OK
+}
+
+// New makes a broker out of what a disk holds (P12, P13).
+//
+// Nothing is written on a disk yet, so no text holds a record: each is taken as an empty disk.
+func New(disk string, room int) (*Herald, api.Errno) {
+	if room < 0 || room > api.MaxRoom {
+		return nil, api.ErrRoom
+	}
+	return &Herald{room: room}, api.OK
+}
+
+// Subscribe gives a client a filter (P4).
+func (h *Herald) Subscribe(client int, filter string) api.Errno {
+	if !isClient(client) {
+		return api.ErrClient
+	}
+	if !topics.IsFilter(filter) {
+		return api.ErrFilter
+	}
+	list := h.clients[client].filters
+	if hasFilter(list, filter) {
+		return api.ErrTwice
+	}
+	if len(list) >= api.MaxFilters {
+		return api.ErrMany
+	}
+	if h.isFull() {
+		return api.ErrFull
+	}
+	own := copyText(filter)
+	h.clients[client].filters = withFilter(list, own)
+	h.records++
+	return api.OK
+}
+
+// Unsubscribe takes a filter from a client (P4).
+func (h *Herald) Unsubscribe(client int, filter string) api.Errno {
+	if !isClient(client) {
+		return api.ErrClient
+	}
+	if !topics.IsFilter(filter) {
+		return api.ErrFilter
+	}
+	list := h.clients[client].filters
+	if !hasFilter(list, filter) {
+		return api.ErrNone
+	}
+	if h.isFull() {
+		return api.ErrFull
+	}
+	h.clients[client].filters = withoutFilter(list, filter)
+	h.records++
+	return api.OK
+}
+
+// Publish sends a message, or lets it wait (P5).
+func (h *Herald) Publish(topic string, value int, delay int, life int) (int, api.Errno) {
+	return 0, api.OK
+}
+
+// Cancel takes back a message that waits (P6).
+func (h *Herald) Cancel(number int) api.Errno { return api.OK }
+
+// Move gives a message that waits another deadline (P6).
+func (h *Herald) Move(number int, delay int) api.Errno { return api.OK }
+
+// Tick tells the broker what time it is (P7).
+func (h *Herald) Tick(to int) api.Errno { return api.OK }
+
+// Ack takes a message from a client's queue (P8).
+func (h *Herald) Ack(client int, number int) api.Errno { return api.OK }
+
+// Time tells the time (P9).
+func (h *Herald) Time() int { return 0 }
+
+// Filters lists a client's filters (P9).
+func (h *Herald) Filters(client int) []string {
+	if !isClient(client) {
+		return nil
+	}
+	return copyFilters(h.clients[client].filters)
+}
+
+// Queue lists a client's messages (P9).
+func (h *Herald) Queue(client int) []api.Message { return nil }
+
+// Lost tells how many messages were lost for a client (P9).
+func (h *Herald) Lost(client int) int { return 0 }
+
+// Waiting lists what waits (P10).
+func (h *Herald) Waiting() []api.Waiting { return nil }
+
+// Records tells how many records there are (P11).
+func (h *Herald) Records() int { return 0 }
+
+// Disk is all that was written (P11).
+func (h *Herald) Disk() string { return "" }
+
+func isClient(client int) bool {
+	return client >= 0 && client < api.MaxClients
+}
+
+// isFull tells whether there is no room for one record more.
+func (h *Herald) isFull() bool {
+	return h.records >= h.room
+}
