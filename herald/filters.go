@@ -47,7 +47,7 @@ func copyFilters(list []string) []string {
 	return fresh
 }
 
-// copyText makes a text of its own room: a filter may be cut out of a far greater text,
+// copyText makes a text of its own room: a filter or a topic may be cut out of a far greater text,
 // and that would be kept along with it.
 func copyText(text string) string {
 	return string([]byte(text))

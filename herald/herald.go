@@ -8,13 +8,17 @@ import (
 
 // Herald is a broker.
 type Herald struct {
-	room    int // records that there may be
-	records int
-	clients [api.MaxClients]clientState
+	room      int // records that there may be
+	records   int
+	time      int
+	published int // messages, whatever has become of them
+	clients   [api.MaxClients]clientState
 }
 
 type clientState struct {
 	filters []string
+	queue   []message
+	lost    int
 }
 
 // Fits tells whether a filter fits a topic (P3).
@@ -83,8 +87,26 @@ func (h *Herald) Unsubscribe(client int, filter string) api.Errno {
 }
 
 // Publish sends a message, or lets it wait (P5).
+//
+// No message waits yet: one with a delay is published and has its Number, but is never sent.
 func (h *Herald) Publish(topic string, value int, delay int, life int) (int, api.Errno) {
-	return 0, api.OK
+	if !topics.IsTopic(topic) {
+		return 0, api.ErrTopic
+	}
+	if !isValue(value) || !isInstant(delay) || !isInstant(life) {
+		return 0, api.ErrArg
+	}
+	if h.isFull() {
+		return 0, api.ErrFull
+	}
+	number := h.published
+	own := copyText(topic)
+	h.published++
+	h.records++
+	if delay == 0 {
+		h.send(message{number: number, topic: own, value: value, life: life, at: h.time})
+	}
+	return number, api.OK
 }
 
 // Cancel takes back a message that waits (P6).
@@ -94,13 +116,42 @@ func (h *Herald) Cancel(number int) api.Errno { return api.OK }
 func (h *Herald) Move(number int, delay int) api.Errno { return api.OK }
 
 // Tick tells the broker what time it is (P7).
-func (h *Herald) Tick(to int) api.Errno { return api.OK }
+func (h *Herald) Tick(to int) api.Errno {
+	if !isInstant(to) {
+		return api.ErrArg
+	}
+	// Ahead of the test for room: what changes nothing writes no record.
+	if to <= h.time {
+		return api.OK
+	}
+	if h.isFull() {
+		return api.ErrFull
+	}
+	h.time = to
+	h.dropOver()
+	h.records++
+	return api.OK
+}
 
 // Ack takes a message from a client's queue (P8).
-func (h *Herald) Ack(client int, number int) api.Errno { return api.OK }
+func (h *Herald) Ack(client int, number int) api.Errno {
+	if !isClient(client) {
+		return api.ErrClient
+	}
+	queue := h.clients[client].queue
+	if !hasMessage(queue, number) {
+		return api.ErrNone
+	}
+	if h.isFull() {
+		return api.ErrFull
+	}
+	h.clients[client].queue = withoutMessage(queue, number)
+	h.records++
+	return api.OK
+}
 
 // Time tells the time (P9).
-func (h *Herald) Time() int { return 0 }
+func (h *Herald) Time() int { return h.time }
 
 // Filters lists a client's filters (P9).
 func (h *Herald) Filters(client int) []string {
@@ -111,10 +162,20 @@ func (h *Herald) Filters(client int) []string {
 }
 
 // Queue lists a client's messages (P9).
-func (h *Herald) Queue(client int) []api.Message { return nil }
+func (h *Herald) Queue(client int) []api.Message {
+	if !isClient(client) {
+		return nil
+	}
+	return shownQueue(h.clients[client].queue, h.time)
+}
 
 // Lost tells how many messages were lost for a client (P9).
-func (h *Herald) Lost(client int) int { return 0 }
+func (h *Herald) Lost(client int) int {
+	if !isClient(client) {
+		return 0
+	}
+	return h.clients[client].lost
+}
 
 // Waiting lists what waits (P10).
 func (h *Herald) Waiting() []api.Waiting { return nil }
@@ -127,6 +188,15 @@ func (h *Herald) Disk() string { return "" }
 
 func isClient(client int) bool {
 	return client >= 0 && client < api.MaxClients
+}
+
+func isValue(value int) bool {
+	return value >= 0 && value <= api.MaxValue
+}
+
+// isInstant tells it of a delay and a life, too: they have the same limits.
+func isInstant(instant int) bool {
+	return instant >= 0 && instant <= api.MaxTime
 }
 
 // isFull tells whether there is no room for one record more.
