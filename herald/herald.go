@@ -13,6 +13,7 @@ type Herald struct {
 	time      int
 	published int // messages, whatever has become of them
 	clients   [api.MaxClients]clientState
+	waiting   []api.Waiting
 }
 
 type clientState struct {
@@ -87,14 +88,15 @@ func (h *Herald) Unsubscribe(client int, filter string) api.Errno {
 }
 
 // Publish sends a message, or lets it wait (P5).
-//
-// No message waits yet: one with a delay is published and has its Number, but is never sent.
 func (h *Herald) Publish(topic string, value int, delay int, life int) (int, api.Errno) {
 	if !topics.IsTopic(topic) {
 		return 0, api.ErrTopic
 	}
 	if !isValue(value) || !isInstant(delay) || !isInstant(life) {
 		return 0, api.ErrArg
+	}
+	if delay > 0 && len(h.waiting) >= api.MaxWaiting {
+		return 0, api.ErrMany
 	}
 	if h.isFull() {
 		return 0, api.ErrFull
@@ -105,15 +107,46 @@ func (h *Herald) Publish(topic string, value int, delay int, life int) (int, api
 	h.records++
 	if delay == 0 {
 		h.send(message{number: number, topic: own, value: value, life: life, at: h.time})
+	} else {
+		deadline := deadlineOf(h.time, delay)
+		later := api.Waiting{Number: number, Topic: own, Value: value, Deadline: deadline, Life: life}
+		h.waiting = withWaiting(h.waiting, later)
 	}
 	return number, api.OK
 }
 
 // Cancel takes back a message that waits (P6).
-func (h *Herald) Cancel(number int) api.Errno { return api.OK }
+func (h *Herald) Cancel(number int) api.Errno {
+	_, waits := findWaiting(h.waiting, number)
+	if !waits {
+		return api.ErrNone
+	}
+	if h.isFull() {
+		return api.ErrFull
+	}
+	h.waiting = withoutWaiting(h.waiting, number)
+	h.records++
+	return api.OK
+}
 
 // Move gives a message that waits another deadline (P6).
-func (h *Herald) Move(number int, delay int) api.Errno { return api.OK }
+func (h *Herald) Move(number int, delay int) api.Errno {
+	moved, waits := findWaiting(h.waiting, number)
+	if !waits {
+		return api.ErrNone
+	}
+	if delay == 0 || !isInstant(delay) {
+		return api.ErrArg
+	}
+	if h.isFull() {
+		return api.ErrFull
+	}
+	moved.Deadline = deadlineOf(h.time, delay)
+	others := withoutWaiting(h.waiting, number)
+	h.waiting = withWaiting(others, moved)
+	h.records++
+	return api.OK
+}
 
 // Tick tells the broker what time it is (P7).
 func (h *Herald) Tick(to int) api.Errno {
@@ -128,7 +161,9 @@ func (h *Herald) Tick(to int) api.Errno {
 		return api.ErrFull
 	}
 	h.time = to
+	// What is over leaves first: it makes room for what is sent.
 	h.dropOver()
+	h.sendDue()
 	h.records++
 	return api.OK
 }
@@ -178,7 +213,7 @@ func (h *Herald) Lost(client int) int {
 }
 
 // Waiting lists what waits (P10).
-func (h *Herald) Waiting() []api.Waiting { return nil }
+func (h *Herald) Waiting() []api.Waiting { return copyWaiting(h.waiting) }
 
 // Records tells how many records there are (P11).
 func (h *Herald) Records() int { return 0 }

@@ -20,8 +20,9 @@ type deed struct {
 	call   string
 	client int
 	text   string
-	number int // what was published ahead of it; or what was acked; or the time
+	number int // what was published ahead of it; or what was acked, cancelled or moved; or the time
 	value  int
+	delay  int
 	life   int
 }
 
@@ -69,14 +70,53 @@ func fitsByPattern(filter, topic string) bool {
 	return regexp.MustCompile("^" + p + "$").MatchString(topic)
 }
 
+// waiting is what waits, in order.
+func (l *history) waiting() []api.Waiting {
+	var list []api.Waiting
+	now := 0
+	for _, d := range l.done {
+		deadline := min(now+d.delay, api.MaxTime)
+		switch {
+		case d.call == "Tick":
+			now = d.number
+			list = slices.DeleteFunc(list, func(w api.Waiting) bool { return w.Deadline <= now })
+		case d.call == "Publish" && d.delay > 0:
+			list = append(list, waits(d.number, d.text, d.value, deadline, d.life))
+		case d.call == "Cancel":
+			list = slices.DeleteFunc(list, func(w api.Waiting) bool { return w.Number == d.number })
+		case d.call == "Move":
+			i := slices.IndexFunc(list, func(w api.Waiting) bool { return w.Number == d.number })
+			list[i].Deadline = deadline
+		}
+	}
+	// The list rises by Numbers as it is: a sort that keeps the order of equals is all that is wanted.
+	slices.SortStableFunc(list, func(v, w api.Waiting) int { return v.Deadline - w.Deadline })
+	return list
+}
+
+func (l *history) doesWait(number int) bool {
+	return slices.ContainsFunc(l.waiting(), func(w api.Waiting) bool { return w.Number == number })
+}
+
+// sent is what the deed at this place sent, in order.
+func (l *history) sent(place int) []api.Waiting {
+	d := l.done[place]
+	switch {
+	case d.call == "Publish" && d.delay == 0:
+		return []api.Waiting{waits(d.number, d.text, d.value, 0, d.life)}
+	case d.call == "Tick":
+		ahead := history{done: l.done[:place]}
+		return slices.DeleteFunc(ahead.waiting(), func(w api.Waiting) bool { return w.Deadline > d.number })
+	}
+	return nil
+}
+
 // queue is the client's queue and how many were lost for it.
 func (l *history) queue(client int) ([]api.Message, int) {
 	var list []api.Message
 	ends := []int{} // when each of the list is over; -1: never
 	lost, now := 0, 0
-	var past history
-	for _, d := range l.done {
-		past.done = append(past.done, d)
+	for place, d := range l.done {
 		gone := func(i int) bool { return false }
 		switch {
 		case d.call == "Tick":
@@ -84,18 +124,6 @@ func (l *history) queue(client int) ([]api.Message, int) {
 			gone = func(i int) bool { return ends[i] >= 0 && ends[i] <= now }
 		case d.call == "Ack" && d.client == client:
 			gone = func(i int) bool { return list[i].Number == d.number }
-		case d.call == "Publish":
-			fits := slices.ContainsFunc(past.filters(client), func(f string) bool { return fitsByPattern(f, d.text) })
-			if fits && len(list) == api.MaxQueue {
-				lost++
-			} else if fits {
-				end := now + d.life
-				if d.life == 0 {
-					end = -1
-				}
-				list = append(list, mail(d.number, d.text, d.value, now, 0))
-				ends = append(ends, end)
-			}
 		}
 		var stay []api.Message
 		var stayEnds []int
@@ -105,6 +133,20 @@ func (l *history) queue(client int) ([]api.Message, int) {
 			}
 		}
 		list, ends = stay, stayEnds
+		past := history{done: l.done[:place]}
+		for _, w := range l.sent(place) {
+			fits := slices.ContainsFunc(past.filters(client), func(f string) bool { return fitsByPattern(f, w.Topic) })
+			if fits && len(list) == api.MaxQueue {
+				lost++
+			} else if fits {
+				end := now + w.Life
+				if w.Life == 0 {
+					end = -1
+				}
+				list = append(list, mail(w.Number, w.Topic, w.Value, now, 0))
+				ends = append(ends, end)
+			}
+		}
 	}
 	for i := range list {
 		if ends[i] >= 0 {
@@ -139,7 +181,7 @@ func pick[T any](d *dice, list ...T) T { return list[d.below(len(list))] }
 func step(t *testing.T, d *dice, h *Herald, l *history) {
 	client := pick(d, 0, 0, 1, 1, 2, 7, 8, -1)
 	isOne := client >= 0 && client < 8
-	switch d.below(8) {
+	switch d.below(11) {
 	case 0:
 		f := pick(d, "#", "a", "+", "a/+", "b/#", "c", "+/a", "a+", "")
 		e := api.OK
@@ -169,9 +211,28 @@ func step(t *testing.T, d *dice, h *Herald, l *history) {
 	case 2, 3, 4:
 		stepPublish(t, d, h, l)
 	case 5:
+		number := l.published() - d.below(20)
+		e := api.OK
+		if !l.doesWait(number) {
+			e = api.ErrNone
+		}
+		e = l.do(deed{call: "Cancel", client: -1, number: number}, e)
+		want(t, "P6: Cancel", h.Cancel(number), e)
+	case 6, 7:
+		number := l.published() - d.below(20)
+		delay := pick(d, 0, 1, 1, 2, 3, 5, 8, 20, 1<<40, 1<<40+1)
+		e := api.OK
+		if !l.doesWait(number) {
+			e = api.ErrNone
+		} else if delay < 1 || delay > 1<<40 {
+			e = api.ErrArg
+		}
+		e = l.do(deed{call: "Move", client: -1, number: number, delay: delay}, e)
+		want(t, "P6: Move", h.Move(number, delay), e)
+	case 8:
 		to := l.time() + pick(d, -1, 0, 1, 1, 2, 3, 5)
 		e := api.OK
-		if to < 0 {
+		if to < 0 || to > 1<<40 {
 			e = api.ErrArg
 		} else if to > l.time() {
 			e = l.do(deed{call: "Tick", client: -1, number: to}, e)
@@ -195,25 +256,29 @@ func step(t *testing.T, d *dice, h *Herald, l *history) {
 
 func stepPublish(t *testing.T, d *dice, h *Herald, l *history) {
 	topic := pick(d, "a", "a", "a/b", "b", "b/a", "c", "a/b/c", "a/", "#")
-	value := pick(d, 0, 1, 77, 1<<30, 1<<30, -1, 1<<30+1)
-	life := pick(d, 0, 1, 2, 3, 5, 8, 1<<40, -1)
+	value := pick(d, 0, 1, 77, 1<<30, 1<<30, 1, 2, 3, 4, 5, -1, 1<<30+1)
+	delay := pick(d, 0, 0, 0, 1, 2, 3, 3, 5, 8, 20, 1<<40, -1)
+	life := pick(d, 0, 1, 2, 3, 5, 8, 1<<40, 0, 0, 4, -1)
 	number := l.published()
 	e := api.OK
 	if topic == "a/" || topic == "#" {
 		e = api.ErrTopic
-	} else if value < 0 || value > 1<<30 || life < 0 {
+	} else if value < 0 || value > 1<<30 || delay < 0 || life < 0 {
 		e = api.ErrArg
+	} else if delay > 0 && len(l.waiting()) == api.MaxWaiting {
+		e = api.ErrMany
 	}
-	e = l.do(deed{call: "Publish", client: -1, text: topic, number: number, value: value, life: life}, e)
+	e = l.do(deed{call: "Publish", client: -1, text: topic, number: number, value: value, delay: delay, life: life}, e)
 	if e != api.OK {
-		publishWrong(t, h, e, topic, value, 0, life)
+		publishWrong(t, h, e, topic, value, delay, life)
 	} else {
-		publish(t, h, number, topic, value, 0, life)
+		publish(t, h, number, topic, value, delay, life)
 	}
 }
 
 func sameShown(t *testing.T, h *Herald, l *history) {
 	wantTime(t, h, l.time())
+	wantWaiting(t, h, l.waiting()...)
 	for client := 0; client < 8; client++ {
 		wantFilters(t, h, client, l.filters(client)...)
 		list, lost := l.queue(client)
@@ -229,6 +294,10 @@ func TestManyOperations(t *testing.T) {
 		d := &dice{state: seed}
 		l := &history{room: 20 + 10*int(seed)}
 		h := begin(t, l.room)
+		if seed%3 == 0 { // near the end of time
+			to := api.MaxTime - 30
+			want(t, "P7: Tick", h.Tick(to), l.do(deed{call: "Tick", client: -1, number: to}, api.OK))
+		}
 		for i := 0; i < 3*l.room && !t.Failed(); i++ {
 			step(t, d, h, l)
 			if i%7 == 0 || i > 3*l.room-3 {
