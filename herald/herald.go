@@ -3,13 +3,14 @@ package herald
 
 import (
 	"herald/api"
+	"herald/records"
 	"herald/topics"
 )
 
 // Herald is a broker.
 type Herald struct {
 	room      int // records that there may be
-	records   int
+	disk      []byte
 	time      int
 	published int // messages, whatever has become of them
 	clients   [api.MaxClients]clientState
@@ -34,13 +35,15 @@ func Fits(filter string, topic string) (bool, api.Errno) {
 }
 
 // New makes a broker out of what a disk holds (P12, P13).
-//
-// Nothing is written on a disk yet, so no text holds a record: each is taken as an empty disk.
 func New(disk string, room int) (*Herald, api.Errno) {
 	if room < 0 || room > api.MaxRoom {
 		return nil, api.ErrRoom
 	}
-	return &Herald{room: room}, api.OK
+	// What was done once is done again, though there be no room for it now.
+	h := &Herald{room: api.MaxRoom}
+	h.redoAll(disk)
+	h.room = room
+	return h, api.OK
 }
 
 // Subscribe gives a client a filter (P4).
@@ -63,7 +66,7 @@ func (h *Herald) Subscribe(client int, filter string) api.Errno {
 	}
 	own := copyText(filter)
 	h.clients[client].filters = withFilter(list, own)
-	h.records++
+	h.write(records.Record{Call: records.Subscribe, Client: client, Text: own})
 	return api.OK
 }
 
@@ -83,7 +86,7 @@ func (h *Herald) Unsubscribe(client int, filter string) api.Errno {
 		return api.ErrFull
 	}
 	h.clients[client].filters = withoutFilter(list, filter)
-	h.records++
+	h.write(records.Record{Call: records.Unsubscribe, Client: client, Text: filter})
 	return api.OK
 }
 
@@ -104,7 +107,7 @@ func (h *Herald) Publish(topic string, value int, delay int, life int) (int, api
 	number := h.published
 	own := copyText(topic)
 	h.published++
-	h.records++
+	h.write(records.Record{Call: records.Publish, Text: own, Value: value, Delay: delay, Life: life})
 	if delay == 0 {
 		h.send(message{number: number, topic: own, value: value, life: life, at: h.time})
 	} else {
@@ -125,7 +128,7 @@ func (h *Herald) Cancel(number int) api.Errno {
 		return api.ErrFull
 	}
 	h.waiting = withoutWaiting(h.waiting, number)
-	h.records++
+	h.write(records.Record{Call: records.Cancel, Number: number})
 	return api.OK
 }
 
@@ -144,7 +147,7 @@ func (h *Herald) Move(number int, delay int) api.Errno {
 	moved.Deadline = deadlineOf(h.time, delay)
 	others := withoutWaiting(h.waiting, number)
 	h.waiting = withWaiting(others, moved)
-	h.records++
+	h.write(records.Record{Call: records.Move, Number: number, Delay: delay})
 	return api.OK
 }
 
@@ -164,7 +167,7 @@ func (h *Herald) Tick(to int) api.Errno {
 	// What is over leaves first: it makes room for what is sent.
 	h.dropOver()
 	h.sendDue()
-	h.records++
+	h.write(records.Record{Call: records.Tick, To: to})
 	return api.OK
 }
 
@@ -181,7 +184,7 @@ func (h *Herald) Ack(client int, number int) api.Errno {
 		return api.ErrFull
 	}
 	h.clients[client].queue = withoutMessage(queue, number)
-	h.records++
+	h.write(records.Record{Call: records.Ack, Client: client, Number: number})
 	return api.OK
 }
 
@@ -216,10 +219,10 @@ func (h *Herald) Lost(client int) int {
 func (h *Herald) Waiting() []api.Waiting { return copyWaiting(h.waiting) }
 
 // Records tells how many records there are (P11).
-func (h *Herald) Records() int { return 0 }
+func (h *Herald) Records() int { return len(h.disk) / records.Size }
 
 // Disk is all that was written (P11).
-func (h *Herald) Disk() string { return "" }
+func (h *Herald) Disk() string { return string(h.disk) }
 
 func isClient(client int) bool {
 	return client >= 0 && client < api.MaxClients
@@ -236,5 +239,5 @@ func isInstant(instant int) bool {
 
 // isFull tells whether there is no room for one record more.
 func (h *Herald) isFull() bool {
-	return h.records >= h.room
+	return h.Records() >= h.room
 }

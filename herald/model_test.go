@@ -278,6 +278,9 @@ func stepPublish(t *testing.T, d *dice, h *Herald, l *history) {
 
 func sameShown(t *testing.T, h *Herald, l *history) {
 	wantTime(t, h, l.time())
+	if h.Records() != len(l.done) {
+		t.Errorf("P11: Records() = %d, want %d", h.Records(), len(l.done))
+	}
 	wantWaiting(t, h, l.waiting()...)
 	for client := 0; client < 8; client++ {
 		wantFilters(t, h, client, l.filters(client)...)
@@ -285,6 +288,61 @@ func sameShown(t *testing.T, h *Herald, l *history) {
 		wantQueue(t, h, client, list...)
 		if h.Lost(client) != lost {
 			t.Errorf("P9: Lost(%d) = %d, want %d", client, h.Lost(client), lost)
+		}
+	}
+}
+
+// comeBack loses the broker and some of the disk's end, or one byte near it; and now and then it has other room.
+// The disk ends behind each deed of the history where ends says.
+func comeBack(t *testing.T, d *dice, h *Herald, l *history, ends []int) *Herald {
+	disk := h.Disk()
+	at := max(0, len(disk)-pick(d, 0, 0, 1, 2, d.below(100), d.below(300)))
+	if at < len(disk) && d.below(2) == 0 {
+		disk = turned(disk, at, 1+d.below(255))
+	} else {
+		disk = disk[:at]
+	}
+	for len(l.done) > 0 && ends[len(l.done)-1] > at {
+		l.done = l.done[:len(l.done)-1]
+	}
+	l.room = pick(d, 200, 200, 200, 200, 200, d.below(501), len(l.done), max(0, len(l.done)-3), len(l.done)+2)
+	x := back(t, disk, l.room)
+	end := 0
+	if len(l.done) > 0 {
+		end = ends[len(l.done)-1]
+	}
+	if x.Disk() != disk[:end] {
+		t.Errorf("P12: behind %d records the disk has %d bytes, want %d", len(l.done), len(x.Disk()), end)
+	}
+	return x
+}
+
+// The operations are broken off many times, and go on with what comes back.
+func TestManyReturns(t *testing.T) {
+	for seed := uint64(1); seed <= 24; seed++ {
+		d := &dice{state: seed * 77}
+		l := &history{room: 200}
+		h := begin(t, l.room)
+		ends := make([]int, api.MaxRoom)
+		for i := 0; i < 500 && !t.Failed(); i++ {
+			was := h.Disk()
+			n := len(l.done)
+			step(t, d, h, l)
+			is := h.Disk()
+			if !strings.HasPrefix(is, was) || (len(l.done) > n) != (len(is) > len(was)) {
+				t.Errorf("P11: the disk is %x, and was %x", is, was)
+			}
+			if len(l.done) > n {
+				ends[n] = len(is)
+			}
+			if d.below(20) == 0 {
+				h = comeBack(t, d, h, l, ends)
+				sameShown(t, h, l)
+			}
+		}
+		sameShown(t, h, l)
+		if t.Failed() {
+			t.Fatalf("seed %d: behind %v", seed, l.done)
 		}
 	}
 }
